@@ -1,0 +1,1 @@
+"""Cacheheld: what a cache beside a database promises."""
