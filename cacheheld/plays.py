@@ -4,11 +4,17 @@ from cacheheld.designs import write_steps
 
 
 class Operation:
-    """A read or a write that has begun; its steps are the words of those still to come."""
+    """A read or a write that has begun; its steps are the words of those still to come.
 
-    def __init__(self, kind, steps):
+    The first event of a run has place 1. "began" is the place of the first step, "left" that of the event by which
+    the operation ended or stopped, None while it is under way.
+    """
+
+    def __init__(self, kind, steps, began):
         self.kind = kind
         self.steps = steps
+        self.began = began
+        self.left = None
         self.stopped = False
         self.version = None
         self.awaited = None
@@ -21,6 +27,14 @@ class Operation:
     def is_under_way(self):
         """Return whether the operation has neither ended nor stopped."""
         return not self.stopped and not self.has_ended()
+
+    def had_ended_by(self, place):
+        """Return whether the operation had done its last step before the event at a place."""
+        return self.has_ended() and self.left < place
+
+    def was_under_way_from(self, place):
+        """Return whether the operation was under way at any time from a place to the end of the run."""
+        return self.is_under_way() or self.left >= place
 
     def can_step(self):
         """Return whether the next step of the operation can come now."""
@@ -41,6 +55,8 @@ class Play:
     """The versions and the operations of a design in a world, changed by one event after the other."""
 
     def __init__(self, design, world):
+        self.design = design
+        self.world = world
         self.path = write_steps(design)
         self.guard = design[1]
         self.flight = design[2]
@@ -52,6 +68,7 @@ class Play:
         self.cache = None
         self.mark = 0
         self.operations = []
+        self.past = []
         # The read that opened a flight last: its flight is open until it ends, also if it stops.
         self.leader = None
         # How often writes have dropped or set: "token" compares it with what a read saw when it looked.
@@ -81,6 +98,7 @@ class Play:
 
     def do(self, event):
         """Do an event that can come now."""
+        self.past.append(event)
         word = event[0]
         if word == "copy":
             self.replica += 1
@@ -90,6 +108,7 @@ class Play:
         elif word == "stop":
             operation = self.operations[event[1]]
             operation.stopped = True
+            operation.left = len(self.past)
         else:
             self.step(word, event[1])
 
@@ -113,14 +132,39 @@ class Play:
             self.drop(operation)
         else:
             self.put(operation)
+        if operation.has_ended():
+            operation.left = len(self.past)
 
     def begun(self, word):
         """Return a new operation whose first step has a word."""
+        place = len(self.past)
         if word != "look":
-            return Operation("write", self.path)
+            return Operation("write", self.path, place)
         if self.guard == "never":
-            return Operation("read", ("look", "fetch"))
-        return Operation("read", ("look", "fetch", "fill"))
+            return Operation("read", ("look", "fetch"), place)
+        return Operation("read", ("look", "fetch", "fill"), place)
+
+    def carry_out(self, kind, number):
+        """Let a read or write, which begins if it has not begun, do its steps until it can do none."""
+        if number == len(self.operations):
+            self.do(("look" if kind == "read" else self.path[0], number))
+        operation = self.operations[number]
+        while operation.can_step():
+            self.do((operation.steps[0], number))
+
+    def is_at_rest(self):
+        """Return whether no operation is under way."""
+        return not any([operation.is_under_way() for operation in self.operations])
+
+    def rested(self):
+        """Return a play that goes on from the same versions and flight, but has no operations yet."""
+        play = Play(self.design, self.world)
+        play.database = self.database
+        play.replica = self.replica
+        play.cache = self.cache
+        play.mark = self.mark
+        play.leader = self.leader
+        return play
 
     def look(self, read):
         """Let a read end by a hit, or go on by itself, or wait for the read whose flight is open."""

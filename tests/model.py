@@ -168,3 +168,16 @@ class Model:
         elif self.ended(self.awaited(number), len(self.run)):
             events.add(("take", number))
         return events
+
+
+def walk(design, world, seed, length):
+    """Return a run of a length, in which events of operations that have begun come more often than others."""
+    run = ()
+    while len(run) < length:
+        events = Model(design, world, run).can_follow()
+        seed = (seed * 1103515245 + 12345) % 2 ** 31
+        number = seed >> 8
+        begun = [event for event in events if event[0] in ("fetch", "fill", "take", "set", "drop", "copy", "store")]
+        choice = begun if begun and number % 4 else events
+        run += (choice[(number >> 4) % len(choice)],)
+    return run

@@ -4,7 +4,7 @@ import unittest
 
 from cacheheld.designs import all_designs, all_worlds
 from cacheheld.runs import can_follow, is_run, operations, state
-from model import Model
+from model import Model, walk
 
 WORDS = ("look", "fetch", "fill", "take", "store", "drop", "set", "stop")
 ALL_EVENTS = [("copy",), ("evict",)] + [(word, number) for word in WORDS for number in range(4)]
@@ -41,19 +41,6 @@ class ModelTest(unittest.TestCase):
                 run = walk(design, world, seed, COMPARED[-1])
                 for length in COMPARED:
                     self.compare(design, world, run[:length])
-
-
-def walk(design, world, seed, length):
-    """Return a run of a length, in which events of operations that have begun come more often than others."""
-    run = ()
-    while len(run) < length:
-        events = Model(design, world, run).can_follow()
-        seed = (seed * 1103515245 + 12345) % 2 ** 31
-        number = seed >> 8
-        begun = [event for event in events if event[0] in ("fetch", "fill", "take", "set", "drop", "copy", "store")]
-        choice = begun if begun and number % 4 else events
-        run += (choice[(number >> 4) % len(choice)],)
-    return run
 
 
 if __name__ == "__main__":
