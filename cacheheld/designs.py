@@ -49,6 +49,11 @@ def write_steps(design):
     return tuple(design[0].split(" "))
 
 
+def words_at(place):
+    """Return the ascending tuple of the words that can stand at a place of a design, 0, 1 or 2."""
+    return (PATHS, GUARDS, FLIGHTS)[place]
+
+
 def check_design(value):
     """Raise BadDesign if a value is no design."""
     if not is_design(value):

@@ -1,7 +1,7 @@
 """The ten promises, and which runs break them (point 8)."""
 
 from cacheheld.designs import check_design, check_world
-from cacheheld.errors import BadPromise
+from cacheheld.errors import BadPromise, BadPromises
 from cacheheld.plays import Play
 from cacheheld.runs import played
 
@@ -39,8 +39,29 @@ def check_question(design, world, promise):
     """Raise the error for the first that is invalid of a design, a world and a promise."""
     check_design(design)
     check_world(world)
-    if promise not in PROMISES:
+    check_promise(promise)
+
+
+def check_promise(value):
+    """Raise BadPromise if a value is not the name of a promise."""
+    if value not in PROMISES:
         raise BadPromise("no promise: one of the ten names is needed")
+
+
+def check_promises(value):
+    """Raise BadPromises if a value is no ascending tuple of different promises."""
+    if not isinstance(value, tuple) or value != tuple([promise for promise in PROMISES if promise in value]):
+        raise BadPromises("no ascending tuple of different promises")
+
+
+def broken_by(play):
+    """Return the ascending tuple of the promises that the run of a play breaks."""
+    found = []
+    for promise in PROMISES:
+        is_broken = BREAKS[promise]
+        if is_broken(play):
+            found.append(promise)
+    return tuple(found)
 
 
 def breaks_ending(play):

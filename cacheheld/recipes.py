@@ -1,7 +1,8 @@
 """Short runs that break promises, and runs that leave the cache far behind (points 10 and 11)."""
 
+from cacheheld.checks import check_number
 from cacheheld.designs import check_design, check_world
-from cacheheld.errors import BadNumber, NotBroken
+from cacheheld.errors import NotBroken
 from cacheheld.plays import Play
 from cacheheld.promises import first_break
 from cacheheld.verdicts import holds
@@ -55,8 +56,7 @@ def behind(design, world, many):
     """Return a run after which, at rest, the cache is so many versions behind the database."""
     check_design(design)
     check_world(world)
-    if isinstance(many, bool) or not isinstance(many, int) or not 1 <= many <= MOST_BEHIND:
-        raise BadNumber("no integer from 1 to 12")
+    check_number(many, 1, MOST_BEHIND)
     if holds(design, world, "rest"):
         raise NotBroken("the cache is never behind at rest")
     plays = [followed(design, world, recipe, many) for recipe in recipes("rest")]

@@ -1,5 +1,7 @@
 """What several tests need: short ways to write runs, and values that are no designs, worlds or runs."""
 
+from cacheheld.designs import all_designs, all_worlds
+
 CALM = ("primary", "keeps", "finishes")
 ROUGH = ("replica", "evicts", "stops")
 
@@ -27,3 +29,8 @@ def nested(depth):
     for _ in range(depth):
         value = (value,)
     return value
+
+
+def everywhere():
+    """Return the pairs of each design and each world."""
+    return [(design, world) for design in all_designs() for world in all_worlds()]

@@ -2,23 +2,17 @@
 
 import unittest
 
-from cacheheld.designs import all_designs, all_worlds
 from cacheheld.errors import BadDesign, BadNumber, BadPromise, BadWorld, NotBroken
 from cacheheld.promises import breaks, promises
 from cacheheld.recipes import behind, breaking_run
 from cacheheld.runs import is_run, operations, state
 from second import broken, is_kept
-from support import CALM, ODD_VALUES, ROUGH, nested
+from support import CALM, ODD_VALUES, ROUGH, everywhere, nested
 
 STORE = ("store", "always", "alone")
 GUARDED = ("store drop", "token", "alone")
 NO_NUMBERS = tuple(value for value in ODD_VALUES if type(value) is not int or not 1 <= value <= 12) + (
     13, 14, -12, "1", "12", (1,), [1], {1: 1}, b"1", nested(90), [[1]])
-
-
-def everywhere():
-    """Return the pairs of each design and each world."""
-    return [(design, world) for design in all_designs() for world in all_worlds()]
 
 
 class ExamplesTest(unittest.TestCase):

@@ -8,14 +8,9 @@ from cacheheld.promises import first_break, promises
 from cacheheld.verdicts import holds, profile
 from model import walk
 from second import CONDITIONS, is_kept
-from support import CALM, ODD_VALUES, ROUGH, nested
+from support import CALM, ODD_VALUES, ROUGH, everywhere, nested
 
 GUARDED = ("store drop", "token", "alone")
-
-
-def everywhere():
-    """Return the pairs of each design and each world."""
-    return [(design, world) for design in all_designs() for world in all_worlds()]
 
 
 class ExamplesTest(unittest.TestCase):
